@@ -1,0 +1,1 @@
+"""Loading rows into tables."""

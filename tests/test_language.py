@@ -1,0 +1,178 @@
+"""What of LANGUAGE.md can be seen in the files of the package, and the names of the interface."""
+
+import ast
+import builtins
+import inspect
+import pathlib
+import re
+import unittest
+
+import bulkload.errors
+import bulkload.formats
+import bulkload.pieces
+import bulkload.values
+
+ROOT = pathlib.Path(__file__).resolve().parent.parent
+FILES = sorted((ROOT / "bulkload").rglob("*.py"))
+BUILTINS = """len range enumerate zip min max sum abs sorted reversed int str bool bytes list tuple dict set frozenset
+    isinstance ord repr any all divmod pow Exception ValueError TypeError KeyError IndexError LookupError
+    ZeroDivisionError ArithmeticError OverflowError RuntimeError NotImplementedError AttributeError StopIteration
+    NotImplemented iter next property staticmethod classmethod super""".split()
+METHODS = """append clear copy count endswith extend find get index insert isalnum isalpha isdigit islower isspace
+    isupper items join keys ljust lower lstrip partition pop remove replace reverse rfind rjust rpartition rsplit
+    rstrip setdefault split splitlines startswith strip update upper values zfill bit_length title capitalize swapcase
+    casefold center expandtabs removeprefix removesuffix rindex isascii isdecimal isnumeric istitle isidentifier
+    isprintable translate""".split()
+SPECIAL = ("__init__", "__eq__", "__repr__", "__str__", "__len__", "__contains__", "__iter__")
+NEVER = "register mro elements open input law version_info with_traceback add_note".split()
+WORDS = re.compile(r"\b(type|typing|typing_extensions|enum|Enum|IntEnum|StrEnum|Flag|IntFlag|Generic|Protocol|ABC"
+                   r"|ABCMeta|namedtuple|NamedTuple|TypedDict|TYPE_CHECKING|abstractmethod|_wall|_WallAttr)\b"
+                   r"|dataclass|overload|contextmanager")
+BARRED = (ast.AsyncFunctionDef, ast.AsyncFor, ast.AsyncWith, ast.Await, ast.Import, ast.Div, ast.Global,
+          ast.Try, ast.AnnAssign, ast.GeneratorExp, ast.Yield, ast.YieldFrom, ast.Lambda)
+
+
+def trees():
+    return [(path, ast.parse(path.read_text())) for path in FILES]
+
+
+def functions_of(tree):
+    return [node for node in ast.walk(tree) if isinstance(node, ast.FunctionDef)]
+
+
+def is_builtin(name):
+    """The tests with doctest leave a _ among the builtins."""
+    return name != "_" and hasattr(builtins, name)
+
+
+def docstrings_of(tree):
+    """The nodes of the docstrings."""
+    holders = [node for node in ast.walk(tree) if isinstance(node, (ast.Module, ast.ClassDef, ast.FunctionDef))]
+    return [node.body[0].value for node in holders
+            if isinstance(node.body[0], ast.Expr) and isinstance(node.body[0].value, ast.Constant)]
+
+
+def bound_in(function):
+    """The parameters and local variables of a function."""
+    rules = function.args
+    names = [arg.arg for arg in rules.posonlyargs + rules.args + rules.kwonlyargs + [rules.vararg, rules.kwarg] if arg]
+    return names + [node.id for node in ast.walk(function) if isinstance(node, ast.Name)
+                    and isinstance(node.ctx, ast.Store)]
+
+
+class LanguageTest(unittest.TestCase):
+    def test_files(self):
+        """L1, L10, L14."""
+        for path in (ROOT / "bulkload").rglob("*"):
+            if "__pycache__" not in path.parts and path.is_file():
+                self.assertRegex(path.name, r"^([a-z0-9_]+)\.py$")
+        for path in FILES:
+            text = path.read_text()
+            self.assertRegex(text, r"^[ -~\n]*\n\Z", path)
+            self.assertLessEqual(text.count("\n"), 399, path)
+            self.assertLessEqual(max(map(len, text.split("\n"))), 120, path)
+            for function in functions_of(ast.parse(text)):
+                self.assertLessEqual(function.end_lineno - function.lineno + 1, 40, (path, function.name))
+
+    def test_imports(self):
+        """L2, L16: only names from the file of the package that defines them, and not in a circle."""
+        defined = {}
+        needs = {}
+        for path, tree in trees():
+            module = "bulkload." + path.stem
+            defined[module] = [node.name for node in tree.body if isinstance(node, (ast.FunctionDef, ast.ClassDef))]
+            defined[module] += [node.targets[0].id for node in tree.body if isinstance(node, ast.Assign)]
+            needs[module] = [node for node in ast.walk(tree) if isinstance(node, ast.ImportFrom)]
+        for module, nodes in needs.items():
+            for node in nodes:
+                self.assertEqual((node.level, [alias.asname for alias in node.names]), (0, [None] * len(node.names)))
+                for alias in node.names:
+                    self.assertIn(alias.name, defined[node.module], module)
+        below = {module: {node.module for node in nodes} for module, nodes in needs.items()}
+        while below:
+            free = [module for module in below if not below[module]]
+            self.assertTrue(free, below)
+            below = {module: below[module].difference(free) for module in below if module not in free}
+
+    def test_nodes(self):
+        """What this package does without."""
+        for path, tree in trees():
+            for node in ast.walk(tree):
+                self.assertNotIsInstance(node, BARRED, (path, getattr(node, "lineno", 0)))
+                if isinstance(node, ast.Constant):
+                    self.assertNotIsInstance(node.value, (float, complex), path)
+
+    def test_module_level(self):
+        """L3, L15."""
+        for path, tree in trees():
+            names = []
+            for node in tree.body[1:]:
+                self.assertIsInstance(node, (ast.ImportFrom, ast.FunctionDef, ast.ClassDef, ast.Assign), path)
+                names += [alias.name for alias in node.names] if isinstance(node, ast.ImportFrom) else []
+                names += [node.targets[0].id] if isinstance(node, ast.Assign) else []
+                names += [node.name] if isinstance(node, (ast.FunctionDef, ast.ClassDef)) else []
+            self.assertEqual(len(names), len(set(names)), path)
+            classes = [node.name for node in tree.body if isinstance(node, ast.ClassDef)]
+            imports = [node for node in tree.body if isinstance(node, ast.ImportFrom)]
+            taken = classes + [alias.name for node in imports for alias in node.names]
+            for function in functions_of(tree):
+                for name in bound_in(function):
+                    self.assertNotIn(name, taken, (path, function.name))
+                    self.assertFalse(is_builtin(name), (path, function.name, name))
+            for name in names:
+                self.assertFalse(is_builtin(name), (path, name))
+
+    def test_names(self):
+        """L8, L12, L17, L25."""
+        own = {function.name for _, tree in trees() for function in functions_of(tree)}
+        for path, tree in trees():
+            for node in ast.walk(tree):
+                if isinstance(node, ast.Name) and is_builtin(node.id):
+                    self.assertIn(node.id, BUILTINS, path)
+                if isinstance(node, ast.Call) and isinstance(node.func, ast.Attribute):
+                    self.assertTrue(node.func.attr in METHODS or node.func.attr in own, (path, node.func.attr))
+                for name in [getattr(node, field, None) for field in ("id", "attr", "arg", "name")]:
+                    if isinstance(name, str):
+                        self.assertNotIn(name, NEVER, path)
+                        self.assertTrue(name in SPECIAL or not name.startswith("__"), (path, name))
+
+    def test_strings(self):
+        """L17, L27."""
+        for path, tree in trees():
+            docstrings = docstrings_of(tree)
+            for node in ast.walk(tree):
+                if isinstance(node, ast.Constant) and isinstance(node.value, str) and node not in docstrings:
+                    self.assertNotIn("\u0025", node.value, path)
+                    self.assertIsNone(WORDS.search(node.value), (path, node.value))
+                if isinstance(node, ast.Name):
+                    self.assertIsNone(WORDS.search(node.id), (path, node.id))
+
+    def test_keywords_of_builtins(self):
+        """L7: where a class has __eq__, any, all and the like take lists."""
+        for path, tree in trees():
+            for node in ast.walk(tree):
+                if isinstance(node, ast.Call) and isinstance(node.func, ast.Name) and node.func.id in BUILTINS:
+                    self.assertEqual([word.arg for word in node.keywords], [], (path, node.lineno))
+
+
+class InterfaceTest(unittest.TestCase):
+    listed = {
+        bulkload.values: {"is_kind": "(value)", "is_value": "(kind, value)", "are_alike": "(one, other)",
+                          "convert": "(kind, text)", "show": "(kind, value)"},
+        bulkload.formats: {"Delimited": "(*, mark=',', quote='\"', null='', names=None)", "Fixed": "(columns)",
+                           "records": "(form, text)", "names_of": "(form, text)",
+                           "written": "(form, rows, *, names=None)"},
+        bulkload.pieces: {"summary": "(form, piece)", "joined": "(one, other)", "records_in": "(form, whole)"},
+    }
+
+    def test_listed_names(self):
+        for module, names in self.listed.items():
+            for name, parameters in names.items():
+                value = getattr(module, name)
+                self.assertEqual(str(inspect.signature(value)), parameters, name)
+                self.assertEqual(value.__module__, module.__name__, name)
+        self.assertEqual(str(inspect.signature(bulkload.formats.Delimited.with_names)), "(self, names)")
+
+
+if __name__ == "__main__":
+    unittest.main()
