@@ -7,12 +7,17 @@ MOST_NAMES = 30
 MOST_IN_TITLE = 20
 
 
+def is_number(value):
+    """Whether a value of any sort is an integer; True and False are none."""
+    return isinstance(value, int) and not isinstance(value, bool)
+
+
 def is_whole(value, low, high):
     """Whether a value of any sort is an integer from low to high."""
-    return isinstance(value, int) and not isinstance(value, bool) and low <= value <= high
+    return is_number(value) and low <= value <= high
 
 
-def is_text(value):
+def is_plain(value):
     """Whether a value of any sort is a string of text characters, however long."""
     if not isinstance(value, str):
         return False
@@ -22,15 +27,20 @@ def is_text(value):
     return plain.isascii() and plain.isprintable()
 
 
+def is_text(value):
+    """Whether a value of any sort is a text."""
+    return isinstance(value, str) and len(value) <= MOST_CHARACTERS and is_plain(value)
+
+
 def is_sign(value):
     """Whether a value of any sort is one character of a text, and no line feed."""
-    return isinstance(value, str) and len(value) == 1 and value != "\n" and is_text(value)
+    return isinstance(value, str) and len(value) == 1 and value != "\n" and is_plain(value)
 
 
 def first_wrong(string):
     """The index of the first character that is none of a text, in a string that has one."""
     at = 0
-    while is_text(string[at]):
+    while is_plain(string[at]):
         at += 1
     return at
 
@@ -40,7 +50,7 @@ def check_text(text):
     if not isinstance(text, str):
         raise BadText(None)
     start = text[:MOST_CHARACTERS]
-    if not is_text(start):
+    if not is_plain(start):
         raise BadText(first_wrong(start))
     if len(text) > MOST_CHARACTERS:
         raise BadText(MOST_CHARACTERS)

@@ -1,6 +1,6 @@
 """Pieces of a text that are looked at alone and joined in any order."""
 
-from bulkload.basics import check_text, is_text
+from bulkload.basics import check_text, is_plain
 from bulkload.errors import BadSummary
 from bulkload.formats import check_form, records_of_cut
 
@@ -29,7 +29,7 @@ def is_summary(value):
     if not isinstance(turns, bool) or not is_cut(outside) or not is_cut(inside):
         return False
     piece = "".join(outside)
-    return is_text(piece) and piece == "".join(inside)
+    return is_plain(piece) and piece == "".join(inside)
 
 
 def check_summary(value):

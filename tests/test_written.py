@@ -139,6 +139,20 @@ class RefusedTest(unittest.TestCase):
                 self.assertEqual(caught(written, form, (("x", "x"), ("x", value))), ("BadRow", 1, 1))
                 self.assertEqual(caught(written, form, ((value, value),)), ("BadRow", 0, 0))
 
+    def test_long_fields(self):
+        """A string of more than 20,000 characters is no text (2.4)."""
+        for size in (20001, 20002, 10 ** 6):
+            for sign in ("x", '"', "\n"):
+                field = sign * size
+                self.assertEqual(caught(written, ONE, ((field,),)), ("BadRow", 0, 0))
+                self.assertEqual(caught(written, TWO, (("1", "2"), ("3", field), ())), ("BadRow", 1, 1))
+                self.assertEqual(caught(written, TWO, (("x" * 20000, None), (field, 7))), ("BadRow", 1, 0))
+                self.assertEqual(caught(written, Delimited(), ((None, field),), names=("a", "b")), ("BadRow", 0, 1))
+                self.assertEqual(caught(written, Delimited(), ((field,),)), ("BadFormat", "names"))
+                self.assertEqual(caught(written, FIXED, ((None, field), (field, None))), ("BadRow", 0, 1))
+        for row in (("x" * 20000, 7), ('"' * 20000, "y" * 20001)):
+            self.assertEqual(caught(written, TWO, (row,)), ("BadRow", 0, 1))
+
     def test_which_comes_first(self):
         self.assertEqual(caught(written, TWO, (("1", 1), ("1",), None)), ("BadRow", 0, 1))
         self.assertEqual(caught(written, TWO, (("1",), ("1", 1))), ("BadRow", 0, None))
@@ -147,12 +161,12 @@ class RefusedTest(unittest.TestCase):
         self.assertEqual(caught(written, FIXED, (("1", "\t"), (1, 1))), ("BadRow", 0, 1))
         self.assertEqual(caught(written, TWO, (("x" * 19000, "y" * 19000), (1, ""))), ("BadRow", 1, 0))
         self.assertEqual(caught(written, TWO, (("x" * 19000, "y" * 19000), ("1",))), ("BadRow", 1, None))
-        self.assertEqual(caught(written, TWO, (("x" * 20001, "y"),) * 2 + ((1, ""),)), ("BadRow", 2, 0))
+        self.assertEqual(caught(written, TWO, (("x" * 20000, "y"),) * 2 + ((1, ""),)), ("BadRow", 2, 0))
 
     def test_length(self):
         self.assertEqual(len(written(ONE, (("x" * 19999,),))), 20000)
         self.assertEqual(caught(written, ONE, (("x" * 20000,),)), ("BadText", 20000))
-        self.assertEqual(caught(written, ONE, (("x" * 20001,),)), ("BadText", 20000))
+        self.assertEqual(caught(written, ONE, (('"' * 20000,),)), ("BadText", 20000))
         self.assertEqual(len(written(ONE, (('"' * 9998 + "x",),))), 20000)
         self.assertEqual(caught(written, ONE, (('"' * 9998 + "xx",),)), ("BadText", 20000))
         self.assertEqual(len(written(ONE, ((None,),) * 20000)), 20000)
