@@ -17,13 +17,11 @@ def is_whole(value, low, high):
     return is_number(value) and low <= value <= high
 
 
-def is_plain(value):
-    """Whether a value of any sort is a string of text characters, however long."""
-    if not isinstance(value, str):
-        return False
+def is_plain(string):
+    """Whether a string has no characters but those of texts, however long it is."""
     # Within ASCII, what is printable is a text's character, but for two: the line feed, which is made
     # a space here, and the percent sign, which is made a line feed.
-    plain = value.translate({10: 32, 37: 10})
+    plain = string.translate({10: 32, 37: 10})
     return plain.isascii() and plain.isprintable()
 
 

@@ -2,6 +2,9 @@
 
 import bulkload.errors as errors
 from bulkload.formats import Delimited, Fixed
+from bulkload.jobs import Job, Target
+from bulkload.schemas import Column, Schema, Table
+from bulkload.tables import Database
 
 FIXED = Fixed((("a", 2, "left", "0"), ("b", 3, "right", " ")))
 
@@ -26,6 +29,13 @@ class Equal:
     __hash__ = None
 
 
+COLUMN = Column("k", ("int", 0, 9))
+TABLE = Table("t", (COLUMN,), ("k",))
+SCHEMA = Schema((TABLE,))
+TARGET = Target("t", (("k", ("field", "a")),))
+# Objects of classes of the package.
+OBJECTS = (Delimited(), FIXED, COLUMN, TABLE, SCHEMA, TARGET, Job(FIXED, (TARGET,)), Database(SCHEMA),
+           Database(SCHEMA).snapshot(), errors.BadNumber())
 # Values of many sorts; none is a kind, a format, a summary or a string.
 ODD = (
     None, True, False, 0, 1, -1, 10 ** 30, -10 ** 5000, b"", b"a", [], ["a"], {}, {"a": 1}, set(), {"a"},
@@ -44,7 +54,47 @@ def caught(call, *values, **named):
         result = call(*values, **named)
     except errors.BulkError as error:
         return (error.__class__.__name__,) + tuple(vars(error).values())
-    raise AssertionError("no error, but " + repr(result)[:200])
+    raise AssertionError("no error, but " + shown(result))
+
+
+def paths_in(value):
+    """The paths to a value and to all that stands in its tuples: tuples of indexes."""
+    yield ()
+    if isinstance(value, tuple):
+        for index, inner in enumerate(value):
+            for path in paths_in(inner):
+                yield (index,) + path
+
+
+def at_path(value, path):
+    for index in path:
+        value = value[index]
+    return value
+
+
+def with_at_path(value, path, new):
+    """A value with another one at the end of a path."""
+    if path == ():
+        return new
+    index = path[0]
+    return value[:index] + (with_at_path(value[index], path[1:], new),) + value[index + 1:]
+
+
+def spoiled(value, news):
+    """The value with each of the news at the end of each path, and its tuples as lists, longer and shorter."""
+    for path in paths_in(value):
+        here = at_path(value, path)
+        more = [list(here), here[:-1], here[1:], here + (None,), here + here[-1:]] if isinstance(here, tuple) else []
+        for new in list(news) + more:
+            yield with_at_path(value, path, new)
+
+
+def shown(value):
+    """What a message shows of a value: the numbers of some odd ones are too long for repr."""
+    try:
+        return repr(value)[:200]
+    except ValueError:
+        return "a value with a long number"
 
 
 def every_text(signs, most):

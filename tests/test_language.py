@@ -8,8 +8,12 @@ import re
 import unittest
 
 import bulkload.errors
+import bulkload.expressions
 import bulkload.formats
+import bulkload.jobs
 import bulkload.pieces
+import bulkload.schemas
+import bulkload.tables
 import bulkload.values
 
 ROOT = pathlib.Path(__file__).resolve().parent.parent
@@ -29,7 +33,7 @@ WORDS = re.compile(r"\b(type|typing|typing_extensions|enum|Enum|IntEnum|StrEnum|
                    r"|ABCMeta|namedtuple|NamedTuple|TypedDict|TYPE_CHECKING|abstractmethod|_wall|_WallAttr)\b"
                    r"|dataclass|overload|contextmanager")
 BARRED = (ast.AsyncFunctionDef, ast.AsyncFor, ast.AsyncWith, ast.Await, ast.Import, ast.Div, ast.Global,
-          ast.Try, ast.AnnAssign, ast.GeneratorExp, ast.Yield, ast.YieldFrom, ast.Lambda)
+          ast.AnnAssign, ast.GeneratorExp, ast.Yield, ast.YieldFrom, ast.Lambda)
 
 
 def trees():
@@ -102,6 +106,45 @@ class LanguageTest(unittest.TestCase):
                 if isinstance(node, ast.Constant):
                     self.assertNotIsInstance(node.value, (float, complex), path)
 
+    def test_errors(self):
+        """L19, as far as this package goes: only own errors are caught, by name, and all are made on the spot."""
+        for path, tree in trees():
+            for node in ast.walk(tree):
+                if isinstance(node, ast.Try):
+                    self.assertEqual((node.orelse, node.finalbody, len(node.handlers)), ([], [], 1), path)
+                    handler = node.handlers[0]
+                    self.assertIsNone(handler.name, path)
+                    self.assertTrue(issubclass(getattr(bulkload.errors, handler.type.id), bulkload.errors.BulkError))
+                if isinstance(node, ast.Raise):
+                    self.assertIsNone(node.cause, path)
+                    self.assertIsInstance(node.exc, ast.Call, path)
+                    self.assertTrue(hasattr(bulkload.errors, node.exc.func.id), path)
+
+    def test_classes(self):
+        """L5, L18: plain methods and properties, and no name for a method and an attribute."""
+        methods, attributes = set(), set()
+        for path, tree in trees():
+            for function in functions_of(tree):
+                self.assertIn([getattr(node, "id", None) for node in function.decorator_list], ([], ["property"]), path)
+            for owner in [node for node in ast.walk(tree) if isinstance(node, ast.ClassDef)]:
+                self.assertIn(owner, tree.body, path)
+                self.assertEqual((owner.decorator_list, owner.keywords), ([], []), path)
+                for node in owner.body:
+                    self.assertTrue(isinstance(node, ast.FunctionDef) or node is owner.body[0], (path, owner.name))
+                methods.update(node.name for node in owner.body if isinstance(node, ast.FunctionDef))
+            attributes.update(node.attr for node in ast.walk(tree)
+                              if isinstance(node, ast.Attribute) and isinstance(node.ctx, ast.Store))
+        self.assertEqual(methods & attributes, set())
+        self.assertEqual(attributes & set(dir(str) + dir(list) + dir(dict) + dir(int)) - {"title", "index"}, set())
+
+    def test_identity(self):
+        """L20: is stands beside None, True and False."""
+        for path, tree in trees():
+            for node in ast.walk(tree):
+                if isinstance(node, ast.Compare) and isinstance(node.ops[0], (ast.Is, ast.IsNot)):
+                    self.assertIsInstance(node.comparators[0], ast.Constant, path)
+                    self.assertIn(repr(node.comparators[0].value), ("None", "True", "False"), path)
+
     def test_module_level(self):
         """L3, L15."""
         for path, tree in trees():
@@ -163,6 +206,26 @@ class InterfaceTest(unittest.TestCase):
                            "records": "(form, text)", "names_of": "(form, text)",
                            "written": "(form, rows, *, names=None)"},
         bulkload.pieces: {"summary": "(form, piece)", "joined": "(one, other)", "records_in": "(form, whole)"},
+        bulkload.expressions: {"is_expression": "(value, names)", "is_condition": "(value, names)",
+                               "evaluate": "(expression, names, fields, number)",
+                               "holds": "(condition, names, fields, number)", "used": "(value)"},
+        bulkload.schemas: {"Column": "(title, kind, *, nullable=False, default=None)",
+                           "Table": "(title, columns, key, *, uniques=(), references=(), checks=(), tallies=())",
+                           "Schema": "(tables)", "truth": "(condition, row)"},
+        bulkload.tables: {"Database": "(schema)"},
+        bulkload.jobs: {"Target": "(place, columns, *, condition=('always',), rule='insert')",
+                        "Job": "(form, targets, *, size=10, most_rejects=None, strict=False, skip_first=0, "
+                               "at_most=None)",
+                        "check_job": "(schema, job)"},
+    }
+    shared = {"rows": "(self, place)", "row": "(self, place, key)", "key_of": "(self, place, row)",
+              "last_number": "(self, sequence)", "version": None, "schema": None}
+    methods = {
+        bulkload.formats.Delimited: {"with_names": "(self, names)"},
+        bulkload.schemas.Schema: {"table_of": "(self, place)", "tally_titles": "(self)", "titles": None,
+                                  "__contains__": "(self, title)"},
+        bulkload.tables.Database: {**shared, "snapshot": "(self)"},
+        bulkload.tables.Snapshot: shared,
     }
 
     def test_listed_names(self):
@@ -171,7 +234,17 @@ class InterfaceTest(unittest.TestCase):
                 value = getattr(module, name)
                 self.assertEqual(str(inspect.signature(value)), parameters, name)
                 self.assertEqual(value.__module__, module.__name__, name)
-        self.assertEqual(str(inspect.signature(bulkload.formats.Delimited.with_names)), "(self, names)")
+
+    def test_listed_methods(self):
+        """Each stands in the class itself; None is that of a property."""
+        for owner, names in self.methods.items():
+            self.assertEqual(owner.__bases__, (object,))
+            for name, parameters in names.items():
+                value = vars(owner)[name]
+                if parameters is None:
+                    self.assertIsInstance(value, property, name)
+                else:
+                    self.assertEqual(str(inspect.signature(value)), parameters, name)
 
 
 if __name__ == "__main__":
