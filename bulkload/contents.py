@@ -17,6 +17,10 @@ class Contents:
         other.handled = self.handled
         return other
 
+    def count_unit(self):
+        """Counts one more unit that was handled."""
+        self.handled += 1
+
     def rows_of(self, title):
         """A new list of the rows of a table, in the order of their keys."""
         rows = self.tables[title]

@@ -107,3 +107,13 @@ def check_job(schema, job):
         rule = wrong_in_target(schema, job.targets[index], job.form.names)
         if rule is not None:
             raise BadJob(index, rule)
+
+
+def check_fields(job, names):
+    """Raises BadJob for a target with a field that a header with these names does not have."""
+    for index in range(len(job.targets)):
+        target = job.targets[index]
+        if not all([is_in_role("expression", pair[1], names) for pair in target.columns]):
+            raise BadJob(index, "expression")
+        if not is_in_role("condition", target.condition, names):
+            raise BadJob(index, "condition")

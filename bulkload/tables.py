@@ -71,3 +71,15 @@ class Snapshot:
     def last_number(self, sequence):
         """The number that a sequence gave last, 0 if it gave none."""
         return self._contents.number_of(sequence)
+
+
+def contents_of(database):
+    """The contents of a Database or a Snapshot, not copied."""
+    return database._contents
+
+
+def database_with(schema, contents):
+    """A Database with these contents, which nothing else changes."""
+    database = Database(schema)
+    database._contents = contents
+    return database
