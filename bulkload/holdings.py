@@ -75,7 +75,7 @@ class Holdings:
 
     def enter_all(self, title):
         """Enters the rows of a table that are there; the totals are right already."""
-        for key, row in self.contents.tables[title].items():
+        for key, row in list(self.contents.tables[title].items()):
             self.enter(title, key, row)
             for tally in self.shapes[title].tallies:
                 counted = values_at(row, tally.places)

@@ -69,8 +69,9 @@ def strict_outcomes(outcomes, runs):
     for outcome in outcomes:
         number, word, place, key = outcome[:4]
         if word in ACTS:
-            outcome = (number, "rejected", place, key, ("unit", least), runs, least)
-        found.append(outcome)
+            found.append((number, "rejected", place, key, ("unit", least), runs, least))
+        else:
+            found.append(outcome)
     return found
 
 
